@@ -1,0 +1,1 @@
+"""Dishes that must come together, started by the clock and by calls."""

@@ -1,0 +1,68 @@
+"""The interface at the end of the document: names, arguments and the files in which they are defined."""
+
+import importlib
+import inspect
+import unittest
+
+EMPTY = inspect.Parameter.empty
+NEEDED = object()
+
+FUNCTIONS = {
+    "cookcalls.meals": {
+        "together": {"names": NEEDED, "most": NEEDED},
+        "keeping": {"name": NEEDED, "others": NEEDED, "most": NEEDED},
+        "ready_by": {"names": NEEDED, "minute": NEEDED},
+        "behind": {"name": NEEDED, "other": NEEDED, "least": NEEDED},
+    },
+    "cookcalls.hangings": {
+        "hangings": {"names": NEEDED, "looks": NEEDED},
+    },
+}
+
+CLASSES = {
+    "cookcalls.meals": {
+        "Meal": {
+            "__init__": {"dishes": NEEDED, "wishes": (), "stations": ()},
+            "dishes": {}, "wishes": {}, "stations": {},
+            "more": {"wishes": NEEDED}, "less": {"index": NEEDED},
+            "taking": {"name": NEEDED, "least": NEEDED, "most": NEEDED},
+            "__len__": None, "__contains__": None, "__iter__": None, "__add__": None, "__eq__": None,
+        },
+    },
+    "cookcalls.hangings": {
+        "Hanging": {
+            "__init__": {"rows": NEEDED},
+            "rows": {}, "dishes": {}, "way": {"name": NEEDED}, "looks": {},
+            "__iter__": None, "__eq__": None,
+        },
+    },
+}
+
+
+def told(function, skipped=0):
+    """Return the parameters of a function with their default values."""
+    found = list(inspect.signature(function).parameters.values())[skipped:]
+    return {one.name: NEEDED if one.default is EMPTY else one.default for one in found}
+
+
+class Interface(unittest.TestCase):
+    def test_functions(self):
+        for module, functions in FUNCTIONS.items():
+            for word, parameters in functions.items():
+                function = getattr(importlib.import_module(module), word)
+                self.assertEqual(function.__module__, module, word)
+                self.assertEqual(list(told(function).items()), list(parameters.items()), word)
+
+    def test_classes_define_their_methods_themselves(self):
+        for module, classes in CLASSES.items():
+            for word, methods in classes.items():
+                found = getattr(importlib.import_module(module), word)
+                self.assertEqual(found.__module__, module, word)
+                for method, parameters in methods.items():
+                    self.assertIn(method, vars(found), word)
+                    if parameters is not None:
+                        self.assertEqual(list(told(vars(found)[method], 1).items()), list(parameters.items()), method)
+
+
+if __name__ == "__main__":
+    unittest.main()
