@@ -1,7 +1,9 @@
 """Hangings: on what each dish hangs, the clock or the call of one other dish."""
 
-from cookcalls.errors import BadRow, NoDish, Round
-from cookcalls.kinds import CLOCK, alike, is_dish, is_name
+from cookcalls.checks import check_dish
+from cookcalls.errors import BadRow, Round
+from cookcalls.kinds import CLOCK, alike, is_name
+from cookcalls.ways import end_of, way_up
 
 
 class Hanging:
@@ -22,14 +24,8 @@ class Hanging:
 
     def way(self, name):
         """Return the list of the dishes whose calls are on the way to the start of the dish."""
-        if not is_dish(name, self.hooks):
-            raise NoDish(name)
-        names = []
-        hook = self.hooks[name]
-        while hook != CLOCK:
-            names.append(hook)
-            hook = self.hooks[hook]
-        return names[::-1]
+        check_dish(name, self.hooks)
+        return way_up(name, self.hooks)
 
     def looks(self):
         """Return the ascending list of the dishes on which others hang."""
@@ -97,8 +93,5 @@ def grown_rows(rows, names, hooks):
 
 def leads_to(hook, name, rows):
     """Tell whether the way up from the hook, as far as the rows know it, comes to the name."""
-    at = hook
     # The rows do not hang the name yet, so the way ends there if it comes to it.
-    while at in rows:
-        at = rows[at]
-    return at == name
+    return end_of(hook, rows) == name

@@ -1,6 +1,7 @@
 """Meals: dishes with their bounds, wishes and stations; and lists of wishes."""
 
-from cookcalls.errors import BadDish, BadStation, BadWish, Clash, NoDish, NoWish
+from cookcalls.checks import check_dish
+from cookcalls.errors import BadDish, BadStation, BadWish, Clash, NoWish
 from cookcalls.kinds import CLOCK, is_dish, is_index, is_list, is_name
 from cookcalls.moments import as_wish, is_bounds, is_station, is_wish
 
@@ -42,8 +43,7 @@ class Meal:
 
     def taking(self, name, least, most):
         """Return the meal in which the dish takes these bounds in place of its own."""
-        if not is_dish(name, self.bounds):
-            raise NoDish(name)
+        check_dish(name, self.bounds)
         return Meal({**self.bounds, name: (least, most)}, self.wished, self.places)
 
     def __len__(self):
