@@ -45,12 +45,12 @@ def is_between(wish, hooks):
 
 def goes_round(thing, hooks, meal, orders):
     """Tell of any object whether it is a ring of rows between the dishes of the hooks."""
-    if not is_list(thing) or len(thing) == 0:
+    if not is_list(thing):
         return False
     rows = [found_row(row, hooks, meal, orders) for row in thing]
     if None in rows:
         return False
-    # In front of the first row stands the last one, as a ring wants it.
+    # For the first row, at - 1 is the last one, as a ring wants it; without rows, 0 is not less than 0.
     joined = [rows[at - 1][1] == rows[at][0] for at in range(len(rows))]
     return all(joined) and sum([number for start, end, number in rows]) < 0
 

@@ -29,7 +29,9 @@ def hung(meal, told, name, hook):
     fresh = [dish for dish in settled if dish not in told.least]
     waits = [(dish, settled[dish], 0, ("wait", dish)) for dish in fresh]
     known = told.known + waits + wish_rows(meal, settled, fresh)
-    return Told(hooks, told.ordered, known, {**told.least, **{dish: 0 for dish in fresh}})
+    # No sum is less than it was before more was told, so the raising goes on from there.
+    sums = {dish: told.least.get(dish, 0) for dish in [CLOCK, *settled]}
+    return Told(hooks, told.ordered, known, sums)
 
 
 def in_order(meal, told, order):

@@ -416,11 +416,21 @@ class IsReason(Checks):
                 for wrong in changed(found, lambda part: self.with_more(part, key)):
                     if wrong != found:
                         self.assertFalse(is_reason(meal, looks, wrong))
+            for key, other in itertools.product(("clock", *meal), (None, True, 0, "pie", "Clock", ("clock",), *meal)):
+                for wrong in changed(found, lambda part: self.exchanged(part, key, other)):
+                    if wrong != found:
+                        counts += 1
+                        self.assertFalse(is_reason(meal, looks, wrong))
             for name in ("pie", "clock", None, 0, True, ["fish"], ("fish",), {}, *meal):
                 for wrong in changed(found, lambda part: self.named(part, name)):
                     if wrong != found:
                         self.assertFalse(is_reason(meal, looks, wrong))
-        self.assertGreater(counts, 5)
+        self.assertGreater(counts, 50)
+
+    def exchanged(self, part, key, other):
+        if part[0] != "hang" or key not in part[2] or other in part[2]:
+            return part
+        return ("hang", part[1], {other if hook == key else hook: part[2][hook] for hook in part[2]})
 
     def without(self, part, key):
         if part[0] != "hang":

@@ -259,6 +259,7 @@ class Suiting(Checks):
             self.check_edge(meal, hanging, orders, sums, -1)
             if None not in greatest.values():
                 self.check_edge(meal, hanging, orders, greatest, 1)
+                self.assertTrue(suits(meal, Book.of(hanging, greatest).rows(), orders))
             for name in meal:
                 if greatest[name] is None:
                     self.check_far(meal, hanging, orders, name)
