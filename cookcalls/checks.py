@@ -11,6 +11,12 @@ def check_dish(name, dishes):
         raise NoDish(name)
 
 
+def check_names(names, dishes):
+    """Raise NoDish for the first of the names that is no key of a dict of dishes."""
+    for name in names:
+        check_dish(name, dishes)
+
+
 def check_same(meal, tree):
     """Raise Unlike if the meal and the book or hanging have not the same dishes."""
     if list(meal) != list(tree):
@@ -45,6 +51,5 @@ def hooks_of(looks, dishes):
     """Return the clock and, ascending and each once, the looks; NoDish for the first that is no dish."""
     if looks is None:
         return [CLOCK] + sorted(dishes)
-    for name in looks:
-        check_dish(name, dishes)
+    check_names(looks, dishes)
     return [CLOCK] + [name for name in sorted(dishes) if name in looks]

@@ -5,7 +5,7 @@ from cookcalls.kinds import CLOCK
 from cookcalls.meals import check_wishes
 from cookcalls.moments import EDGES
 from cookcalls.raising import raised
-from cookcalls.ways import dish_of, spread, way_of
+from cookcalls.ways import dish_of, spread, times_longer, way_of
 
 
 def most_behind(meal, book, one, other):
@@ -26,9 +26,7 @@ def worst_times(meal, book, one, other):
     check_same(meal, book)
     check_moments([one, other], meal.dishes())
     hooks = book.hanging().rows()
-    bounds = meal.dishes()
-    long = [name for name in way_of(other, hooks) if name not in way_of(one, hooks)]
-    return {name: bounds[name][1] if name in long else bounds[name][0] for name in bounds}
+    return times_longer(way_of(one, hooks), way_of(other, hooks), meal.dishes())
 
 
 def is_right(meal, book):

@@ -61,3 +61,10 @@ def wish_rows(meal, hooks, fresh):
     bounds = meal.dishes()
     return [wish_as_row(wish, hooks, bounds) + (("wish", index),) for index, wish in enumerate(meal.wishes())
             if is_between(wish, hooks) and (dish_of(wish[0]) in fresh or dish_of(wish[1]) in fresh)]
+
+
+def raised_again(told, names, more):
+    """Return what is told where the numbers of the rows with these names are so many minutes greater."""
+    known = [(start, end, number + more if name in names else number, name) for start, end, number, name in told.known]
+    # Rows that ask less may leave the sums less, so the raising begins anew.
+    return Told(told.hooks, told.ordered, known, {dish: 0 for dish in [CLOCK, *settled_hooks(told.hooks)]})

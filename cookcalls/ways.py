@@ -38,8 +38,17 @@ def dish_of(moment):
 
 def spread(one, other, hooks, bounds):
     """Return the most minutes by which the times alone may bring the moment other behind the moment one."""
-    mine = way_of(one, hooks)
-    yours = way_of(other, hooks)
+    return most_longer(way_of(one, hooks), way_of(other, hooks), bounds)
+
+
+def most_longer(mine, yours, bounds):
+    """Return the most minutes by which the times on your way may add up to more than those on mine."""
     # What is on both ways cancels; of the rest, each time stands at its worse end.
     longest = sum([bounds[name][1] for name in yours if name not in mine])
     return longest - sum([bounds[name][0] for name in mine if name not in yours])
+
+
+def times_longer(mine, yours, bounds):
+    """Return times in which it is by so many minutes."""
+    long = [name for name in yours if name not in mine]
+    return {name: bounds[name][1] if name in long else bounds[name][0] for name in bounds}

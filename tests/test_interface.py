@@ -38,6 +38,22 @@ FUNCTIONS = {
         "reason": {"meal": NEEDED, "looks": None},
         "is_reason": {"meal": NEEDED, "looks": NEEDED, "thing": NEEDED},
     },
+    "cookcalls.calls": {
+        "enough": {"meal": NEEDED, "looks": NEEDED},
+        "least_looks": {"meal": NEEDED},
+        "in_place": {"meal": NEEDED, "looks": NEEDED, "look": NEEDED, "other": NEEDED},
+    },
+    "cookcalls.bounds": {
+        "least_most": {"meal": NEEDED, "index": NEEDED, "looks": None},
+        "soonest": {"meal": NEEDED, "names": NEEDED, "looks": None},
+        "closest": {"meal": NEEDED, "names": NEEDED, "looks": None},
+    },
+    "cookcalls.comparing": {
+        "never_later": {"meal": NEEDED, "one": NEEDED, "other": NEEDED},
+        "same": {"meal": NEEDED, "one": NEEDED, "other": NEEDED},
+        "parting": {"meal": NEEDED, "one": NEEDED, "other": NEEDED},
+        "gains": {"meal": NEEDED, "one": NEEDED, "other": NEEDED},
+    },
 }
 
 CLASSES = {
