@@ -83,23 +83,26 @@ def happens(meal, book, wishes):
     check_same(meal, book)
     check_wishes(wishes, meal.dishes())
     # Counted in minutes at which the dishes are done, each row is about two things alone.
-    dones = {name: 0 for name in [CLOCK, *meal]}
-    rows = time_rows(meal, book) + [wished_row(wish, book) for wish in wishes]
-    least, ring = raised(dones, rows)
-    if ring is not None:
+    least, loop = dones_by(time_rows(meal.dishes(), book) + [wished_row(wish, book) for wish in wishes], book)
+    if loop is not None:
         return None
     return {name: least[name] - least[book[name][0]] - book[name][1] for name in meal}
 
 
-def time_rows(meal, book):
-    """Return the rows by which each dish takes a number of minutes within its bounds."""
+def dones_by(rows, book):
+    """Return minutes at which the dishes are done that keep the rows and None, or None and a ring of rows."""
+    return raised({name: 0 for name in [CLOCK, *book]}, rows)
+
+
+def time_rows(bounds, book):
+    """Return the rows by which each dish takes a number of minutes within its bounds; a most of None is none."""
     rows = []
-    bounds = meal.dishes()
     for name in bounds:
         hook, wait = book[name]
         least, most = bounds[name]
         rows.append((name, hook, -wait - least, name))
-        rows.append((hook, name, wait + most, name))
+        if most is not None:
+            rows.append((hook, name, wait + most, name))
     return rows
 
 

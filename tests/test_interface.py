@@ -54,6 +54,18 @@ FUNCTIONS = {
         "parting": {"meal": NEEDED, "one": NEEDED, "other": NEEDED},
         "gains": {"meal": NEEDED, "one": NEEDED, "other": NEEDED},
     },
+    "cookcalls.backing": {
+        "told_back": {"meal": NEEDED, "book": NEEDED, "seen": NEEDED},
+        "blamed": {"meal": NEEDED, "book": NEEDED, "seen": NEEDED},
+    },
+    "cookcalls.quarrels": {
+        "quarrels": {"meal": NEEDED, "hanging": NEEDED},
+        "peaces": {"meal": NEEDED, "hanging": NEEDED},
+    },
+    "cookcalls.texts": {
+        "write": {"thing": NEEDED},
+        "read": {"text": NEEDED},
+    },
 }
 
 CLASSES = {
@@ -79,6 +91,16 @@ CLASSES = {
             "rows": {}, "hanging": {}, "wait": {"name": NEEDED}, "added": {"name": NEEDED},
             "of": {"hanging": NEEDED, "sums": NEEDED}, "__call__": {"times": NEEDED}, "__getitem__": None,
             "__iter__": None, "__add__": None, "__and__": None, "__or__": None, "__eq__": None,
+        },
+    },
+    "cookcalls.evenings": {
+        "Evening": {
+            "__init__": {"meal": NEEDED, "book": NEEDED},
+            "minute": {}, "state": {"name": NEEDED}, "book": {}, "meal": {}, "go": {"minutes": NEEDED},
+            "call": {"name": NEEDED},
+            "put": {"name": NEEDED, "least": NEEDED, "most": NEEDED, "other": NEEDED, "wait": NEEDED},
+            "change": {"name": NEEDED, "other": NEEDED, "wait": NEEDED}, "wish": {"wish": NEEDED}, "undo": {},
+            "several": {"deeds": NEEDED}, "rest": {}, "verdicts": {}, "mended": {"looks": None},
         },
     },
 }

@@ -36,8 +36,11 @@ def all_looks(names):
 
 def least_of(sets):
     """Return those of the sets no part of which is among them, ordered as the document tells."""
-    least = [chosen for chosen in sets if not any(set(part) < set(chosen) for part in sets)]
-    return sorted({tuple(sorted(chosen)) for chosen in least}, key=lambda chosen: (len(chosen), chosen))
+    found = []
+    for chosen in sorted({tuple(sorted(one)) for one in sets}, key=lambda one: (len(one), one)):
+        if not any(set(part) <= set(chosen) for part in found):
+            found.append(chosen)
+    return found
 
 
 def with_most(meal, index, most):
