@@ -129,16 +129,17 @@ def some_deed(rng, plain, spare):
     names = sorted(plain.rows)
     running = [name for name in names if plain.state(name)[0] == "runs"]
     waiting = [name for name in names if plain.state(name)[0] == "waits"]
+    likely = rng.random() < 0.9
     word = rng.choice(["go", "go", "go", "call", "call", "call", "put", "change", "wish"])
     if word == "go":
         return ("go", rng.choice([1, 1, 1, 2, 3, 0]))
     if word == "call":
-        return ("call", rng.choice(running or names or spare) if rng.random() < 0.9 else rng.choice(names + spare))
+        return ("call", rng.choice(running or names or spare) if likely else rng.choice(names + spare))
     if word == "wish":
         return ("wish", (some_moment(rng, names + spare[:1]), some_moment(rng, names), rng.randint(-4, 9)))
     other = rng.choice(["clock", *names])
     wait = max(-1, (plain.minute if other == "clock" else 0) + rng.randint(-2, 3))
     if word == "put":
         least = rng.randint(0, 3)
-        return ("put", rng.choice(spare if rng.random() < 0.9 else names + spare), least, rng.randint(1, 4), other, wait)
-    return ("change", rng.choice(waiting or names or spare) if rng.random() < 0.9 else rng.choice(names + spare), other, wait)
+        return ("put", rng.choice(spare if likely else names + spare), least, rng.randint(1, 4), other, wait)
+    return ("change", rng.choice(waiting or names or spare) if likely else rng.choice(names + spare), other, wait)

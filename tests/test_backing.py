@@ -31,10 +31,11 @@ def some_seen(rng, meal, rows, around=0):
 
 
 def explained(meal, rows, seen, names):
-    """Tell whether some numbers of minutes, from 0 on for the names and within the bounds else, explain what was seen."""
+    """Tell whether some minutes, from 0 on for the names and within bounds for all others, explain what was seen."""
     # A dish that took longer than this was done behind all that was seen, and might as well have taken so long.
     longest = max([0, *seen.values()]) + 1
-    ranges = [range(longest + 1) if name in names else range(least, most + 1) for name, (least, most) in meal.dishes().items()]
+    ranges = [range(longest + 1) if name in names else range(least, most + 1)
+              for name, (least, most) in meal.dishes().items()]
     return any(as_seen(rows, dict(zip(meal, taken)), seen) for taken in itertools.product(*ranges))
 
 
@@ -55,7 +56,8 @@ class ToldBack(unittest.TestCase):
         rows = CHAIN.rows()
         self.assertEqual(self.check(MEAL, rows, {("done", "fish"): 4}), {"fish": (3, 3), "rice": (3, 4), "tea": (2, 2)})
         self.assertEqual(self.check(MEAL, rows, {("done", "rice"): 7}), {"fish": (2, 3), "rice": (3, 4), "tea": (2, 2)})
-        self.assertEqual(self.check(MEAL, rows, {("start", "tea"): 12}), {"fish": (5, 5), "rice": (4, 4), "tea": (2, 2)})
+        self.assertEqual(self.check(MEAL, rows, {("start", "tea"): 12}),
+                         {"fish": (5, 5), "rice": (4, 4), "tea": (2, 2)})
         self.assertIsNone(self.check(MEAL, rows, {("start", "tea"): 13}))
         self.assertEqual(self.check(MEAL, FORK.rows(), {("done", "tea"): 9, ("done", "rice"): 7}),
                          {"fish": (3, 3), "rice": (3, 3), "tea": (2, 2)})
@@ -64,7 +66,8 @@ class ToldBack(unittest.TestCase):
         for rows in (CHAIN.rows(), FORK.rows()):
             self.assertEqual(self.check(MEAL, rows, {}), BOUNDS)
             for times in all_times(MEAL):
-                seen = {(edge, name): minute(rows, times, (edge, name)) for edge in ("start", "done") for name in BOUNDS}
+                moments = list(itertools.product(("start", "done"), BOUNDS))
+                seen = {moment: minute(rows, times, moment) for moment in moments}
                 self.assertEqual(self.check(MEAL, rows, seen), {name: (times[name],) * 2 for name in BOUNDS})
                 seen["done", "tea"] += 1
                 self.assertIsNone(self.check(MEAL, rows, seen))
@@ -101,7 +104,8 @@ class ToldBack(unittest.TestCase):
         names, most = list("abcdef"), 999999999
         meal = Meal({name: (1, most) for name in names})
         chain = Book(dict(zip(names, zip(["clock", *names], [most] * 6))))
-        self.assertEqual(told_back(meal, chain, {("start", "b"): most + 2 + most, ("done", "b"): 3 * most + 2})["a"], (2, 2))
+        seen = {("start", "b"): most + 2 + most, ("done", "b"): 3 * most + 2}
+        self.assertEqual(told_back(meal, chain, seen)["a"], (2, 2))
         self.assertEqual(told_back(meal, chain, {("done", "f"): 12 * most}), {name: (most, most) for name in names})
         self.assertEqual(told_back(meal, chain, {("done", "f"): 6 * most + 7}), {name: (1, 2) for name in names})
         self.assertIsNone(told_back(meal, chain, {("done", "f"): 12 * most + 1}))
@@ -136,8 +140,10 @@ class Blamed(unittest.TestCase):
         self.assertEqual(self.check(MEAL, rows, {("done", "fish"): 9}), [("fish",)])
         self.assertEqual(self.check(MEAL, rows, {("done", "rice"): 11}), [("fish",), ("rice",)])
         self.assertEqual(self.check(MEAL, rows, {("start", "tea"): 3}), [("fish", "rice")])
-        self.assertEqual(self.check(MEAL, rows, {("done", "fish"): 9, ("done", "tea"): 15}), [("fish", "rice"), ("fish", "tea")])
-        self.assertEqual(self.check(MEAL, rows, {("done", "tea"): 6}), [("fish", "rice"), ("fish", "tea"), ("rice", "tea")])
+        self.assertEqual(self.check(MEAL, rows, {("done", "fish"): 9, ("done", "tea"): 15}),
+                         [("fish", "rice"), ("fish", "tea")])
+        self.assertEqual(self.check(MEAL, rows, {("done", "tea"): 6}),
+                         [("fish", "rice"), ("fish", "tea"), ("rice", "tea")])
 
     def test_sets_with_fewer_dishes_come_first(self):
         # The rice alone, or both the others.
@@ -205,8 +211,9 @@ class WrongSeen(unittest.TestCase):
 
     def test_keys_that_are_no_moments_of_a_dish(self):
         wrong = [key for key in any_keys() if key != ("start", "rice")]
-        for thing in wrong + ["clock", "rice", ("start", "pie"), ("done", "clock"), ("begin", "rice"), ("rice", "start"),
-                              ("start",), ("start", "rice", 0), ("start", ("rice",)), (("start", "rice"),), ("start", True)]:
+        wrong += ["clock", "rice", ("start", "pie"), ("done", "clock"), ("begin", "rice"), ("rice", "start"),
+                  ("start",), ("start", "rice", 0), ("start", ("rice",)), (("start", "rice"),), ("start", True)]
+        for thing in wrong:
             self.check({thing: 5}, thing)
             self.check({("done", "fish"): 4, thing: None, ("done", "tea"): None}, thing)
 

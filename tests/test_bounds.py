@@ -343,7 +343,8 @@ class Both(unittest.TestCase):
         started = time.process_time()
         for _ in range(20):
             bounds = {name: (rng.randint(1, 10 ** 8), rng.randint(10 ** 8, 10 ** 9 - 1)) for name in FOUR}
-            wished = together(FOUR, rng.randint(10 ** 8, 3 * 10 ** 9)) + ready_by(FOUR, rng.randint(10 ** 8, 4 * 10 ** 9))
+            wished = together(FOUR, rng.randint(10 ** 8, 10 ** 9 - 1))
+            wished += ready_by(FOUR, rng.randint(10 ** 8, 10 ** 9 - 1))
             meal = Meal(bounds, wished + rng.sample(wished, 8), [FOUR[:3]] * rng.randint(0, 1))
             self.assertEqual(closest(meal, FOUR) is None, soonest(meal, FOUR) is None)
             for index in range(24):

@@ -93,7 +93,8 @@ class Starts(Led):
         self.refused(evening, Overdue, {"name": "a"}, "go", 1)
 
     def test_a_book_that_is_not_right(self):
-        evening = Evening(MEAL.more(ready_by(["tea"], 0)), Book({"tea": ("rice", 0), "fish": ("tea", 0), "rice": ("clock", 0)}))
+        book = Book({"tea": ("rice", 0), "fish": ("tea", 0), "rice": ("clock", 0)})
+        evening = Evening(MEAL.more(ready_by(["tea"], 0)), book)
         self.assertEqual(evening.go(11), [])
         self.assertEqual(evening.call("rice"), ["tea"])
 
@@ -293,12 +294,14 @@ class Wish(Led):
         self.assertIsNone(evening.wish(wish))
         self.assertIsNone(evening.wish(wish=("clock", "clock", -1)))
         wish[0][1] = "tea"
-        self.assertEqual(evening.meal().wishes(), MEAL.wishes() + [(("done", "fish"), "clock", -5), ("clock", "clock", -1)])
+        self.assertEqual(evening.meal().wishes(),
+                         MEAL.wishes() + [(("done", "fish"), "clock", -5), ("clock", "clock", -1)])
         self.assertEqual(evening.minute(), 0)
 
     def test_any_objects(self):
         evening = Evening(MEAL, BOOK)
-        for thing in any_objects() + [("clock", "clock"), ("clock", "clock", True), ("clock", ("start", "egg"), 5), "clock"]:
+        wrong = [("clock", "clock"), ("clock", "clock", True), ("clock", ("start", "egg"), 5), "clock"]
+        for thing in any_objects() + wrong:
             if thing != (("start", "rice"), "clock", 5):
                 self.refused(evening, BadWish, {"index": 2}, "wish", thing)
         evening.wish(("clock", "clock", 0))
@@ -390,7 +393,8 @@ class Several(Led):
         for deed, error, attributes in (
                 (("go", 0), BadMinutes, {"minutes": 0}), (("go", 3), Overdue, {"name": "fish"}),
                 (("call", "rice"), NotRunning, {"name": "rice"}), (("call", "pie"), NoDish, {"name": "pie"}),
-                (("call", "egg"), NoDish, {"name": "egg"}), (("put", "tea", 1, 2, "clock", 11), BadDish, {"name": "tea"}),
+                (("call", "egg"), NoDish, {"name": "egg"}),
+                (("put", "tea", 1, 2, "clock", 11), BadDish, {"name": "tea"}),
                 (("put", "egg", 1, 2, "egg", 11), BadRow, {"name": "egg"}),
                 (("put", "egg", 1, 2, "clock", 9), TooEarly, {"name": "egg"}),
                 (("change", "fish", "clock", 11), Started, {"name": "fish"}),
@@ -411,8 +415,8 @@ class Several(Led):
             ("go",), ("go", 1, 1), ("call",), ("call", "rice", "rice"), ("put", "egg", 1, 2, "clock"), ("wish",),
             ("put", "egg", 1, 2, "clock", 9, 9), ("change", "tea", "rice"), ("change", "tea", "rice", 0, 0),
             ("wish", "clock", "clock", 0), ("undo",), ("several", []), ("several", [("go", 1)]), ("minute",), ("rest",),
-            ("mended",), ("follow", 1), ("state", "rice"), ("Go", 1), ("go ", 1), (["go"], 1), (("go",), 1), "go", ("go1"),
-            {"go": 1}, {0: "go", 1: 1}, [("go", 1)], (True, 1), (None,), ({}, 1), [[], []]]
+            ("mended",), ("follow", 1), ("state", "rice"), ("Go", 1), ("go ", 1), (["go"], 1), (("go",), 1), "go",
+            ("go1",), {"go": 1}, {0: "go", 1: 1}, [("go", 1)], (True, 1), (None,), ({}, 1), [[], []]]
         for thing in wrong:
             self.check_refused(evening, [thing], 0, None)
             self.check_refused(evening, (("go", 1), ("put", "egg", 1, 2, "clock", 9), thing, ("go", 0)), 2, None)
@@ -483,14 +487,15 @@ class AgainstThePlainWay(Led):
                     word, arguments = "undo", ()
                 elif chance < 0.3:
                     ahead = copy.deepcopy(plain)
-                    word, arguments = "several", ([some_deed(rng, ahead, ["egg", "jam"]) for _ in range(rng.randint(0, 3))],)
+                    deeds = [some_deed(rng, ahead, ["egg", "jam"]) for _ in range(rng.randint(0, 3))]
+                    word, arguments = "several", (deeds,)
                 else:
                     word, *arguments = some_deed(rng, plain, ["egg", "jam"])
                 came = self.both(evening, plain, word, *arguments)
                 counts[word, came] = counts.get((word, came), 0) + 1
-        for word, came in (("go", "done"), ("go", "Overdue"), ("go", "BadMinutes"), ("call", "done"), ("call", "NoDish"),
-                           ("call", "NotRunning"), ("call", "TooSoon"), ("put", "done"), ("put", "BadDish"),
-                           ("put", "BadRow"), ("put", "TooEarly"), ("change", "done"), ("change", "NoDish"),
+        for word, came in (("go", "done"), ("go", "Overdue"), ("go", "BadMinutes"), ("call", "done"),
+                           ("call", "NoDish"), ("call", "NotRunning"), ("call", "TooSoon"), ("put", "done"),
+                           ("put", "BadDish"), ("put", "BadRow"), ("put", "TooEarly"), ("change", "done"), ("change", "NoDish"),
                            ("change", "Started"), ("change", "BadRow"), ("change", "Round"), ("change", "TooEarly"),
                            ("wish", "done"), ("wish", "BadWish"), ("undo", "done"), ("undo", "NothingBack"),
                            ("several", "done"), ("several", "Refused")):

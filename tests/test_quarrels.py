@@ -64,8 +64,8 @@ class Quarrels(Checks):
 
     def test_sets_with_fewer_wishes_come_first(self):
         # One wish is broken by itself; the first one quarrels with each of the other two.
-        meal = Meal(BOUNDS, [("clock", ("done", "fish"), 5), (("start", "fish"), "clock", -1), (("done", "fish"), "clock", -3),
-                             ("clock", "clock", -1)])
+        meal = Meal(BOUNDS, [("clock", ("done", "fish"), 5), (("start", "fish"), "clock", -1),
+                             (("done", "fish"), "clock", -3), ("clock", "clock", -1)])
         self.assertEqual(self.check(meal, CLOCKED), ([(3,), (0, 1), (0, 2)], [(0,), (1, 2)]))
 
     def test_no_wishes_no_dishes_and_all_at_peace(self):
@@ -116,7 +116,8 @@ class FromOneAnother(Checks):
             indexes = set(range(len(meal.wishes())))
             meeting = least_of([chosen for chosen in sets_of(sorted(indexes))
                                 if all(set(chosen) & set(quarrel) for quarrel in quarrels(meal, hanging))])
-            self.assertEqual(peaces(meal, hanging), sorted([tuple(sorted(indexes - set(chosen))) for chosen in meeting], **ORDER))
+            left = [tuple(sorted(indexes - set(chosen))) for chosen in meeting]
+            self.assertEqual(peaces(meal, hanging), sorted(left, **ORDER))
 
     def test_the_quarrels_are_what_meets_all_that_each_peace_leaves_out(self):
         for meal, hanging in self.some(393, 60):
@@ -143,7 +144,8 @@ class FromOneAnother(Checks):
         for _ in range(10):
             bounds = {name: (rng.randint(1, 10 ** 8), rng.randint(10 ** 8, 10 ** 9 - 1)) for name in names}
             wished = together(names[:4], 10 ** 9 - 1) + ready_by(names, 10 ** 9 - 1) + behind("ale", "fig", 10 ** 9 - 1)
-            self.check(Meal(bounds, rng.sample(wished, 8)), Hanging(dict(zip(names, ["clock", "ale", "clock", "cod", "dal", "bun"]))))
+            hanging = Hanging(dict(zip(names, ["clock", "ale", "clock", "cod", "dal", "bun"])))
+            self.check(Meal(bounds, rng.sample(wished, 8)), hanging)
         self.assertLess(time.process_time() - started, 30)
 
 
@@ -159,7 +161,8 @@ class Kinds(unittest.TestCase):
 
     def test_unlike(self):
         for function in (quarrels, peaces):
-            for rows in ({}, {"fish": "clock"}, {**CLOCKED.rows(), "pie": "clock"}, {"fish": "clock", "rice": "fish", "pie": "fish"}):
+            for rows in ({}, {"fish": "clock"}, {**CLOCKED.rows(), "pie": "clock"},
+                         {"fish": "clock", "rice": "fish", "pie": "fish"}):
                 self.assertRaises(Unlike, function, Meal(BOUNDS), Hanging(rows))
                 self.assertRaises(Unlike, function, Meal(BOUNDS, ready_by(["fish"], 0)), Hanging(rows))
             self.assertRaises(Unlike, function, Meal({}), CLOCKED)

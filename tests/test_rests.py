@@ -187,7 +187,8 @@ class Mended(unittest.TestCase):
             return None
         self.assertEqual(list(book), list(meal))
         self.assertTrue(is_right(meal, book))
-        self.assertLessEqual({hook for hook, wait in book.rows().values()}, {"clock", *(meal if looks is None else looks)})
+        hooks = {"clock", *(meal if looks is None else looks)}
+        self.assertLessEqual({hook for hook, wait in book.rows().values()}, hooks)
         for times in all_times(meal):
             self.assertTrue(self.goes_on(evening, book(times)))
         self.assertTrue(right(meal, book.rows()))
@@ -210,7 +211,8 @@ class Mended(unittest.TestCase):
 
     def test_a_dish_that_came_late(self):
         # The fish took so long that the rice, which runs, might be done too soon for it.
-        meal = Meal({"fish": (5, 9), "rice": (3, 4), "tea": (2, 2)}, together(["fish", "rice"], 4) + ready_by(["rice"], 15))
+        meal = Meal({"fish": (5, 9), "rice": (3, 4), "tea": (2, 2)},
+                    together(["fish", "rice"], 4) + ready_by(["rice"], 15))
         evening = Evening(meal, Book({"fish": ("clock", 0), "rice": ("clock", 5), "tea": ("clock", 30)}))
         evening.go(4)
         self.assertIsNotNone(self.check(evening, None))
@@ -237,10 +239,11 @@ class Mended(unittest.TestCase):
         self.assertIsNotNone(self.check(evening, None))
 
     def test_a_call_is_needed(self):
-        meal = Meal({"fish": (5, 9), "rice": (3, 4)}, behind("rice", "fish", 0) + [(("done", "fish"), ("start", "rice"), 1)])
+        meal = Meal({"fish": (5, 9), "rice": (3, 4)},
+                    behind("rice", "fish", 0) + [(("done", "fish"), ("start", "rice"), 1)])
         evening = Evening(meal, Book({"fish": ("clock", 2), "rice": ("clock", 20)}))
         evening.go(4)
-        for looks, some in ((None, True), (["fish"], True), ([], False), (["rice"], False), (("rice", "fish", "fish"), True)):
+        for looks, some in ((None, True), (["fish"], True), ([], False), (["rice"], False), (("rice", "fish"), True)):
             self.assertEqual(self.check(evening, looks) is not None, some)
         evening.go(3)
         evening.call("fish")
@@ -291,7 +294,8 @@ class Mended(unittest.TestCase):
                 continue
             meal = evening.rest()[0]
             for looks in all_looks(meal):
-                some = any(right(meal, rows) and all(self.goes_on(evening, self.moments(rows, times)) for times in all_times(meal))
+                some = any(right(meal, rows) and all(self.goes_on(evening, self.moments(rows, times))
+                                                     for times in all_times(meal))
                            for hooks in all_hooks(list(meal), looks) for rows in all_rows(hooks, 9))
                 self.assertEqual(self.check(evening, looks) is not None, some)
                 counts[some] += 1

@@ -109,7 +109,8 @@ def tight_meal(rng, names, longest=6):
     for name in names:
         least = rng.randint(1, longest)
         dishes[name] = (least, rng.choice([least, rng.randint(least, longest)]))
-    wished = [wish for _ in range(rng.randint(1, 3)) for wish in together(rng.sample(names, 2), rng.randint(1, longest))]
+    pairs = [rng.sample(names, 2) for _ in range(rng.randint(1, 3))]
+    wished = [wish for pair in pairs for wish in together(pair, rng.randint(1, longest))]
     return Meal(dishes, wished, [rng.sample(names[:3], 2) for _ in range(rng.randint(1, 3))])
 
 
