@@ -341,14 +341,17 @@ class Both(unittest.TestCase):
     def test_many_calls_come_back_soon(self):
         rng = random.Random(338)
         started = time.process_time()
+        none = 0
         for _ in range(20):
-            bounds = {name: (rng.randint(1, 10 ** 8), rng.randint(10 ** 8, 10 ** 9 - 1)) for name in FOUR}
+            bounds = {name: (rng.randint(1, 10 ** 7), rng.randint(10 ** 7, 3 * 10 ** 8)) for name in FOUR}
             wished = together(FOUR, rng.randint(10 ** 8, 10 ** 9 - 1))
             wished += ready_by(FOUR, rng.randint(10 ** 8, 10 ** 9 - 1))
             meal = Meal(bounds, wished + rng.sample(wished, 8), [FOUR[:3]] * rng.randint(0, 1))
             self.assertEqual(closest(meal, FOUR) is None, soonest(meal, FOUR) is None)
+            none += closest(meal, FOUR) is None
             for index in range(24):
                 least_most(meal, index)
+        self.assertTrue(2 < none < 18, none)
         self.assertLess(time.process_time() - started, 60)
 
 

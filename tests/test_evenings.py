@@ -495,8 +495,9 @@ class AgainstThePlainWay(Led):
                 counts[word, came] = counts.get((word, came), 0) + 1
         for word, came in (("go", "done"), ("go", "Overdue"), ("go", "BadMinutes"), ("call", "done"),
                            ("call", "NoDish"), ("call", "NotRunning"), ("call", "TooSoon"), ("put", "done"),
-                           ("put", "BadDish"), ("put", "BadRow"), ("put", "TooEarly"), ("change", "done"), ("change", "NoDish"),
-                           ("change", "Started"), ("change", "BadRow"), ("change", "Round"), ("change", "TooEarly"),
+                           ("put", "BadDish"), ("put", "BadRow"), ("put", "TooEarly"), ("change", "done"),
+                           ("change", "NoDish"), ("change", "Started"), ("change", "BadRow"), ("change", "Round"),
+                           ("change", "TooEarly"),
                            ("wish", "done"), ("wish", "BadWish"), ("undo", "done"), ("undo", "NothingBack"),
                            ("several", "done"), ("several", "Refused")):
             self.assertGreater(counts.get((word, came), 0), 3, (word, came))
